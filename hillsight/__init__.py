@@ -1,0 +1,1 @@
+"""Hillsight: hills on a line that see each other."""
