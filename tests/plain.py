@@ -1,4 +1,4 @@
-"""Promises 2, 5 and 6 done as plainly as they are told, and lands to try them on."""
+"""The promises about seeing, ridges, towers, signals and changes done as plainly as they are told, and lands to try."""
 
 from itertools import product
 
@@ -75,3 +75,61 @@ def long_lands(count=200):
         "mixed low": mixed(count, 3),
         "mixed high": mixed(count, TOP),
     }
+
+
+def plain_ridge(land):
+    """The places above whose tops no line between an earlier and a later top passes."""
+    places = range(len(land))
+    return [
+        k for k in places
+        if not any(lies_below(land, a, k, b) for a in range(k) for b in places[k + 1:])
+    ]
+
+
+def plain_tower(land, a, b):
+    """The least of all whole numbers from nought on that make a and b see each other."""
+    height = 0
+    while not plain_sees(raised(land, a, height), a, b):
+        height += 1
+    return height
+
+
+def raised(land, place, by):
+    """A new land, one hill of which is higher."""
+    return land[:place] + [land[place] + by] + land[place + 1:]
+
+
+def plain_hops(views, a):
+    """Going out from a, step by step, to all that see a hill reached before; by the views of a land."""
+    steps = {a: 0}
+    while len(steps) < len(views):
+        reached = {place for hill in steps for place in views[hill]} - set(steps)
+        steps.update(dict.fromkeys(reached, max(steps.values()) + 1))
+    return [steps[place] for place in range(len(views))]
+
+
+def plain_way(views, a, b):
+    """The least of all ways of the fewest steps, by trying all ways of one step, of two, and so on."""
+    ways = [[a]]
+    while not any(way[-1] == b for way in ways):
+        ways = [way + [place] for way in ways for place in views[way[-1]]]
+    return min(way for way in ways if way[-1] == b)
+
+
+def plain_ways_to(views, b):
+    """The way from each hill to b, built up backwards from b by whole lists."""
+    ways = {b: [b]}
+    while len(ways) < len(views):
+        found = {}
+        for hill in set(range(len(views))) - set(ways):
+            candidates = [[hill] + ways[place] for place in views[hill] if place in ways]
+            if candidates:
+                found[hill] = min(candidates)
+        ways.update(found)
+    return [ways[hill] for hill in range(len(views))]
+
+
+def plain_change(ahead, behind):
+    """The pairs that came to be and those that ceased between two lands, each in order."""
+    before, after = set(plain_sights(ahead)), set(plain_sights(behind))
+    return (sorted(after - before), sorted(before - after))

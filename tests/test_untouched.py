@@ -2,16 +2,26 @@
 
 import unittest
 
+from hillsight.lands import Land, checked
 from hillsight.looking import hider, sees, sights, view
+from hillsight.notes import read, shown
+from hillsight.ridges import ridge, tower
+from hillsight.signals import hops, way
 from hillsight.slopes import slope, steeper
 from tests.plain import long_lands
 
 
 def lists_told(land):
     """Calls, each of which tells a new list."""
-    calls = [lambda: sights(land)]
+    kept = Land(land)
+    line = shown(land)
+    calls = [
+        lambda: sights(land), lambda: ridge(land), lambda: checked(land), lambda: read(line), kept.told, kept.seen,
+    ]
     for place in range(len(land)):
         calls.append(lambda a=place: view(land, a))
+        calls.append(lambda a=place: hops(land, a))
+        calls.append(lambda a=place: way(land, a, 0))
     return calls
 
 
@@ -21,17 +31,36 @@ class UntouchedTest(unittest.TestCase):
             with self.subTest(name=name):
                 before = list(land)
                 sights(land)
+                ridge(land)
+                shown(land)
+                checked(land)
+                Land(land).lift(3, 0)
                 for a in range(20):
                     view(land, a)
+                    hops(land, a)
                     for b in range(a + 1, 20):
                         slope(land, a, b)
                         sees(land, a, b)
                         hider(land, b, a)
+                        tower(land, a, b)
+                        way(land, b, a)
                 self.assertEqual(land, before)
+
+    def test_a_land_that_is_kept_changes_by_lifts_alone(self):
+        land = Land([3, 1, 2, 5])
+        heights = land.told()
+        for call in (sights, ridge, shown, checked, Land):
+            call(heights)
+        heights[1] = 9
+        land.seen()
+        self.assertEqual(land.told(), [3, 1, 2, 5])
 
     def test_the_land_stays_as_it_was_where_a_call_is_refused(self):
         land = [3, 1, 2]
-        for told, places in ((sees, (0, 3)), (hider, (1, 1)), (view, (-1,))):
+        refused = (
+            (sees, (0, 3)), (hider, (1, 1)), (view, (-1,)), (tower, (2, 2)), (hops, (3,)), (way, (0, -1)),
+        )
+        for told, places in refused:
             with self.assertRaises(ValueError):
                 told(land, *places)
         self.assertEqual(land, [3, 1, 2])
@@ -64,8 +93,14 @@ class UntouchedTest(unittest.TestCase):
     def test_the_answer_follows_a_changed_land(self):
         land = [0, 1, 0]
         self.assertEqual([sights(land), view(land, 0)], [[(0, 1), (1, 2)], [1]])
+        self.assertEqual([ridge(land), tower(land, 0, 2)], [[0, 1, 2], 3])
+        self.assertEqual([hops(land, 0), way(land, 0, 2)], [[0, 1, 2], [0, 1, 2]])
+        self.assertEqual([shown(land), checked(land)], ["0 1 0", [0, 1, 0]])
         land[1] = -1
         self.assertEqual([sights(land), view(land, 0)], [[(0, 1), (0, 2), (1, 2)], [1, 2]])
+        self.assertEqual([ridge(land), tower(land, 0, 2)], [[0, 2], 0])
+        self.assertEqual([hops(land, 0), way(land, 0, 2)], [[0, 1, 1], [0, 2]])
+        self.assertEqual([shown(land), checked(land)], ["0 -1 0", [0, -1, 0]])
         self.assertIs(sees(land, 0, 2), True)
 
 
